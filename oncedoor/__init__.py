@@ -1,0 +1,1 @@
+"""Oncedoor: asks that may come twice."""
