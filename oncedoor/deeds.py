@@ -1,7 +1,7 @@
 """Deeds: their form, their texts, the names they touch and what they ask of houses."""
 
 from oncedoor.errors import NoDeed
-from oncedoor.words import MOST, is_name, is_whole, number_of
+from oncedoor.words import MOST, is_name, is_whole, number_of, shown_parts
 
 # How many names, those of houses too, stand between a deed's word and its amount.
 NAME_COUNTS = {"add": 1, "take": 1, "move": 2, "send": 2, "fetch": 2, "pass": 3}
@@ -29,7 +29,7 @@ def fits_word(word, names):
 
 def shown_deed(deed):
     """A deed's text."""
-    return " ".join([str(part) for part in deed])
+    return shown_parts(deed)
 
 
 def read_deed(text):
@@ -61,3 +61,14 @@ def asks_of(deed):
     if deed[0] == "pass":
         return ((deed[1], take), (deed[2], add))
     return ()
+
+
+def done_changes(deed):
+    """The pairs (name, by) that a deed changes in the house where it is done."""
+    if deed[0] == "pass":
+        return ()
+    if deed[0] == "move":
+        return ((deed[1], -deed[-1]), (deed[2], deed[-1]))
+    if deed[0] in ("take", "send"):
+        return ((deed[-2], -deed[-1]),)
+    return ((deed[-2], deed[-1]),)

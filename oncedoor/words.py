@@ -31,6 +31,11 @@ def number_of(text):
     return int(text)
 
 
+def shown_parts(parts):
+    """The text of texts and numbers, parted by single blanks."""
+    return " ".join([str(part) for part in parts])
+
+
 def is_whole(thing, least, most):
     """Whether anything is a whole number from least to most."""
     # Python counts truths among its whole numbers; here they are none.

@@ -178,6 +178,37 @@ class Form(unittest.TestCase):
                 if isinstance(sign, (ast.Is, ast.IsNot)):
                     self.holds(place, isinstance(right, ast.Constant) and isinstance(right.value, (bool, type(None))))
 
+    def test_refusals(self):
+        own = [node.name for place, node in nodes(ast.ClassDef)]
+        for place, node in nodes(ast.Raise):
+            self.holds(place, isinstance(node.exc, ast.Call) and node.exc.func.id in own)
+        for place, node in nodes(ast.ExceptHandler):
+            self.holds(place, isinstance(node.type, ast.Name) and node.type.id in own + ["KeyError", "ZeroDivisionError"])
+        for place, node in nodes(ast.Try):
+            self.holds(place, not node.finalbody)
+
+    def test_what_stands_at_a_file_s_top_is_only_read(self):
+        changing = "append clear extend insert pop remove reverse setdefault update".split()
+        for name, tree in TREES.items():
+            kept = [node.targets[0].id for node in tree.body if isinstance(node, ast.Assign)]
+            for node in [node for node in tree.body if isinstance(node, ast.Assign)]:
+                lists = [part for part in ast.walk(node.value) if isinstance(part, (ast.List, ast.Dict))]
+                self.holds(name, all(part is node.value for part in lists))
+            for node in ast.walk(tree):
+                if isinstance(node, (ast.Attribute, ast.Subscript)) and getattr(node.value, "id", None) in kept:
+                    self.holds(name, isinstance(node.ctx, ast.Load) and getattr(node, "attr", None) not in changing)
+
+    def test_what_is_walked_at_once_is_not_kept(self):
+        walked = "zip enumerate reversed range items keys values".split()
+        takers = "list tuple dict sorted sum any all enumerate zip min max".split()
+        free = [node.iter for place, node in nodes(ast.For, ast.comprehension)]
+        for place, node in nodes(ast.Call):
+            if getattr(node.func, "id", None) in takers or getattr(node.func, "attr", None) == "join":
+                free += node.args
+        for place, node in nodes(ast.Call):
+            if getattr(node.func, "id", getattr(node.func, "attr", None)) in walked:
+                self.holds(place, node in free)
+
 
 if __name__ == "__main__":
     unittest.main()
