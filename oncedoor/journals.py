@@ -42,6 +42,10 @@ class Journal:
         """How many rows are safe."""
         return self.safe_count
 
+    def is_safe(self, row):
+        """Whether a row is among the safe ones."""
+        return row in self.written[:self.safe_count]
+
 
 def line_of(row):
     """A row's line with its line end."""

@@ -111,9 +111,14 @@ def by_numbers(rows, word):
     return told
 
 
+def first_book(rows):
+    """The book that has what the has rows tell."""
+    return Book([row[1:] for row in rows if row[0] == "has"])
+
+
 def risen_book(rows, came):
-    """The book that has rows and done rows tell; NoChange where it can't be changed so."""
-    book = Book([row[1:] for row in rows if row[0] == "has"])
+    """The book behind all done rows; NoChange where it can't be changed so."""
+    book = first_book(rows)
     for row in rows:
         if row[0] == "done":
             book.change(changes_of(came[row[1]][5], row[3]))

@@ -49,7 +49,7 @@ def is_part(kind, thing):
 
 def shown_row(row):
     """A row's line, without its line end."""
-    parts = [shown_parts(part) if isinstance(part, tuple) else part for part in row]
+    parts = list(row)
     if row[0] == "kept":
         parts.insert(6, "=")
     return shown_parts(parts)

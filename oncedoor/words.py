@@ -32,8 +32,8 @@ def number_of(text):
 
 
 def shown_parts(parts):
-    """The text of texts and numbers, parted by single blanks."""
-    return " ".join([str(part) for part in parts])
+    """The text of texts, numbers and tuples of these, parted by single blanks."""
+    return " ".join([shown_parts(part) if isinstance(part, tuple) else str(part) for part in parts])
 
 
 def is_whole(thing, least, most):

@@ -135,6 +135,13 @@ class Written(Case):
         journal.force()
         self.holds(journal, 0, 0)
 
+    def test_which_rows_are_safe(self):
+        journal = Journal(LINES[0])
+        journal.write(ROWS[1])
+        self.assertEqual([journal.is_safe(row) for row in ROWS[:3]], [True, False, False])
+        journal.force()
+        self.assertEqual([journal.is_safe(row) for row in ROWS[:3]], [True, True, False])
+
     def test_behind_a_torn_end(self):
         journal = Journal(LINES[0] + "has an")
         journal.write(ROWS[1])
